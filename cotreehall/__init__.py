@@ -1,0 +1,1 @@
+"""Cotreehall: webs of points and their kinds, told with papers either way."""
