@@ -1,6 +1,7 @@
 """Webs and checks for the tests, made without the program."""
 
 import copy
+import random
 from itertools import combinations
 
 
@@ -77,3 +78,270 @@ def check_own(test, function, *given):
     other.clear()
     test.assertEqual(given, before)
     test.assertEqual(function(*given), right)
+
+
+HUGE = 10 ** 59
+WIDE = 10 ** 60 - 1
+
+
+def no_points(many):
+    """Numbers that are no points of a web of so many."""
+    return [-1, many, -2, many + 1, HUGE, -HUGE, WIDE, -WIDE]
+
+
+def other(web):
+    many = len(web)
+    return made(many, [(a, b) for a, b in combinations(range(many), 2) if not is_tied(web, a, b)])
+
+
+def apart(one, two):
+    """Two webs beside each other."""
+    return one + [mates << len(one) for mates in two]
+
+
+def renamed(web, order):
+    """The web with point p called order[p]."""
+    ties = [(a, b) for a, b in combinations(range(len(web)), 2) if is_tied(web, a, b)]
+    return made(len(web), [(order[a], order[b]) for a, b in ties])
+
+
+def flipped(web, a, b):
+    """The web with the tie of two points put in or taken out."""
+    new = list(web)
+    new[a] ^= 1 << b
+    new[b] ^= 1 << a
+    return new
+
+
+def by_pairs(many, asked):
+    return made(many, [(a, b) for a, b in combinations(range(many), 2) if asked(a, b)])
+
+
+# Webs of one way of making each, from a fixed begin, so that they are the same each time.
+
+def some_bare_mix(chance, many):
+    share = chance.randrange(1, 10)
+    return by_pairs(many, lambda a, b: chance.randrange(10) < share)
+
+
+def some_sided(chance, many):
+    side = [chance.randrange(2) for p in range(many)]
+    return by_pairs(many, lambda a, b: side[a] != side[b] and chance.randrange(10) < 6)
+
+
+def some_rounds(chance, many):
+    web = []
+    for p in range(many):
+        mates = 0
+        for q in chance.sample(range(p), chance.randrange(p + 1)):
+            if mates & ~web[q] == 0:
+                mates |= 1 << q
+        web = [old | (1 << p if mates >> q & 1 else 0) for q, old in enumerate(web)] + [mates]
+    return web
+
+
+def some_split(chance, many):
+    first = [chance.randrange(2) == 1 for p in range(many)]
+    return by_pairs(many, lambda a, b: first[a] and first[b] or first[a] != first[b] and chance.randrange(2) == 1)
+
+
+def some_steps(chance, many):
+    mark = [chance.randrange(2) == 1 for p in range(many)]
+    return by_pairs(many, lambda a, b: mark[max(a, b)])
+
+
+def some_rows_of_joining(chance, many):
+    things, rows = list(range(many)), []
+    for k in range(many - 1):
+        x = things.pop(chance.randrange(len(things)))
+        y = things.pop(chance.randrange(len(things)))
+        rows.append([chance.randrange(2), x, y])
+        things.append(many + k)
+    return rows
+
+
+def some_joins(chance, many):
+    web, things = [0] * many, [[p] for p in range(many)]
+    for mark, x, y in some_rows_of_joining(chance, many):
+        for a in things[x]:
+            for b in things[y]:
+                if mark:
+                    web = flipped(web, a, b)
+        things.append(things[x] + things[y])
+    return web
+
+
+def some_ranked(chance, many):
+    place = [[chance.randrange(20) for k in range(3)] for p in range(many)]
+    below = [[all(x < y for x, y in zip(one, two)) for two in place] for one in place]
+    return by_pairs(many, lambda a, b: below[a][b] or below[b][a])
+
+
+def some_turned(chance, many):
+    order = chance.sample(range(many), many)
+    return by_pairs(many, lambda a, b: order[a] > order[b])
+
+
+def some_spans(chance, many):
+    ends = [sorted([chance.randrange(30), chance.randrange(30)]) for p in range(many)]
+    return by_pairs(many, lambda a, b: ends[a][0] <= ends[b][1] and ends[b][0] <= ends[a][1])
+
+
+WAYS = [some_bare_mix, some_sided, some_rounds, some_split, some_steps, some_joins, some_ranked, some_turned,
+        some_spans]
+
+
+def ways_of_fourteen(several):
+    """Of each way some webs of fourteen points, as made, with one tie changed, and their other webs."""
+    chance, webs = random.Random(14), []
+    for way in WAYS:
+        for k in range(several):
+            web = renamed(way(chance, 14), chance.sample(range(14), 14))
+            changed = flipped(web, *chance.sample(range(14), 2))
+            webs += [web, changed, other(web)]
+    return webs
+
+
+def plain_webs():
+    """Rows and rings of each size, their other webs, and some webs of several pieces."""
+    webs = [row(14), bare(14), full(14), mixed(14), other(mixed(14)), mixed(9), full(13), bare(13)]
+    for many in range(3, 15):
+        webs += [ring(many), other(ring(many)), row(many), other(row(many))]
+    webs += [apart(ring(5), ring(9)), apart(bare(3), row(7)), apart(full(7), full(7)), apart(ring(4), ring(6))]
+    return webs + [other(web) for web in webs[-4:]]
+
+
+def great_webs():
+    return plain_webs() + ways_of_fourteen(2)
+
+
+# What the document says, told straight by its words.
+
+def are_unlike_points(web, some):
+    return all(0 <= p < len(web) for p in some) and len(set(some)) == len(some)
+
+
+def are_all_tied(web, points):
+    return all(is_tied(web, a, b) for a, b in combinations(points, 2))
+
+
+def are_none_tied(web, points):
+    return not any(is_tied(web, a, b) for a, b in combinations(points, 2))
+
+
+def each_once(web, some):
+    return sorted(some) == list(range(len(web)))
+
+
+def right_line(web, some):
+    if len(some) < 1 or not are_unlike_points(web, some):
+        return False
+    return all(is_tied(web, some[j], some[k]) == (k == j + 1) for j, k in combinations(range(len(some)), 2))
+
+
+def right_ring(web, some):
+    if len(some) < 3 or not are_unlike_points(web, some):
+        return False
+    last = len(some) - 1
+    return all(is_tied(web, some[j], some[k]) == (k == j + 1 or (j, k) == (0, last))
+               for j, k in combinations(range(len(some)), 2))
+
+
+def right_sides(web, left):
+    if left < 0 or left >= 2 ** len(web):
+        return False
+    points = members(left)
+    return are_none_tied(web, points) and are_none_tied(web, [p for p in range(len(web)) if p not in points])
+
+
+def right_odd_ring(web, some):
+    return right_ring(web, some) and len(some) in (3, 5, 7, 9, 11, 13)
+
+
+def right_taking(web, some):
+    if not each_once(web, some):
+        return False
+    return all(are_all_tied(web, [q for q in some[k + 1:] if is_tied(web, p, q)]) for k, p in enumerate(some))
+
+
+def right_chordless(web, some):
+    return right_ring(web, some) and len(some) > 3
+
+
+def spoil(value):
+    """Every list within is made another one."""
+    if isinstance(value, tuple):
+        for thing in value:
+            spoil(thing)
+    if isinstance(value, list):
+        for thing in value:
+            spoil(thing)
+        value.reverse()
+        value.append(12345)
+        value[0] = 54321
+
+
+def check_free(test, function, *given):
+    """What is handed in is as before, and an answer changed within changes neither it nor the next answer."""
+    before = copy.deepcopy(given)
+    answer = function(*given)
+    right = copy.deepcopy(answer)
+    test.assertEqual(given, before)
+    spoil(answer)
+    test.assertEqual(given, before)
+    test.assertEqual(function(*given), right)
+    test.assertEqual(given, before)
+
+
+def check_agrees(test, asked, right, *given):
+    """A question is answered with True or False as the document says, and what is handed in is as before."""
+    before = repr(given)
+    test.assertIs(asked(*given), right(*given), given)
+    test.assertEqual(repr(given), before)
+
+
+def check_one_is_none(test, one, two, web):
+    test.assertNotEqual(one is None, two is None, (web, one, two))
+
+
+def check_numbers(test, some):
+    test.assertIs(type(some), list)
+    for number in some:
+        test.assertTrue(is_whole_number(number), some)
+
+
+def check_rows(test, rows):
+    test.assertIs(type(rows), list)
+    for told in rows:
+        check_numbers(test, told)
+
+
+def near_lists(some, many):
+    """A list and others that differ from it by little, numbers that are no points among theirs."""
+    found = [[], list(some), some[::-1], some + some, some[1:] + some[:1], some[1:], some[:-1]]
+    for number in no_points(many) + [0, many - 1]:
+        found += [some + [number], [number] + some, [number]]
+    for k in range(len(some)):
+        found += [some[:k] + some[k + 1:], some[:k] + some[k:k + 1] + some[k:]]
+        found += [some[:k] + [number] + some[k + 1:] for number in no_points(many) + some[:1]]
+    for j, k in combinations(range(len(some)), 2):
+        changed = list(some)
+        changed[j], changed[k] = changed[k], changed[j]
+        found.append(changed)
+    return found
+
+
+def near_rows(rows, many):
+    """Rows and others that differ from them by little."""
+    found = [[], [[]], copy.deepcopy(rows), rows[::-1], rows + rows, rows[1:] + rows[:1]]
+    extra = [[], [0], [0, 0], [0, 1], [1, 0], [0, 1, 2], [many - 1, many], [-1, -1], [HUGE, -WIDE], [2], [WIDE]]
+    found += [rows + [one] for one in extra] + [[one] + rows for one in extra]
+    numbers = [0, 1, 2, many - 1, many, -1, HUGE, -HUGE, WIDE, -WIDE]
+    for k, told in enumerate(rows):
+        changes = [told[::-1], [], told[1:], told[:-1], told + [0], told + told, [1] + told]
+        changes += [told[:j] + [number] + told[j + 1:] for j in range(len(told)) for number in numbers]
+        changes += [told[:j] + [told[j] + step] + told[j + 1:] for j in range(len(told)) for step in (1, -1)]
+        found += [rows[:k] + [change] + rows[k + 1:] for change in changes]
+        found += [rows[:k] + rows[k + 1:], rows[:k + 1] + rows[k:]]
+        found += [rows[:j] + [told] + rows[j + 1:k] + [rows[j]] + rows[k + 1:] for j in range(k)]
+    return found
