@@ -268,6 +268,85 @@ def right_chordless(web, some):
     return right_ring(web, some) and len(some) > 3
 
 
+def right_steps(web, rows):
+    if not all(len(told) == 2 and told[1] in (0, 1) for told in rows) or not each_once(web, [told[0] for told in rows]):
+        return False
+    ties = [(rows[j][0], rows[k][0]) for j, k in combinations(range(len(rows)), 2) if rows[k][1] == 1]
+    return made(len(web), ties) == web
+
+
+def right_no_steps(web, some):
+    if len(some) != 4 or not are_unlike_points(web, some):
+        return False
+    a, b, c, d = some
+    return is_tied(web, a, b) and is_tied(web, c, d) and not is_tied(web, a, c) and not is_tied(web, b, d)
+
+
+def right_halves(web, first, second):
+    if first < 0 or second < 0 or not each_once(web, members(first) + members(second)):
+        return False
+    return are_all_tied(web, members(first)) and are_none_tied(web, members(second))
+
+
+def right_no_halves(web, some):
+    if len(some) not in (4, 5) or not are_unlike_points(web, some):
+        return False
+    two_ties = [is_tied(web, a, b) for a, b in combinations(some, 2)] == [True, False, False, False, False, True]
+    return two_ties or right_ring(web, some)
+
+
+def joined_by(many, rows):
+    """The web that the rows make, None where they are no rows of joining."""
+    if len(rows) != max(many - 1, 0):
+        return None
+    things, ties = {p: [p] for p in range(many)}, []
+    for k, told in enumerate(rows):
+        if len(told) != 3 or told[0] not in (0, 1) or told[1] == told[2]:
+            return None
+        if told[1] not in things or told[2] not in things:
+            return None
+        x, y = things.pop(told[1]), things.pop(told[2])
+        ties += [(a, b) for a in x for b in y if told[0] == 1]
+        things[many + k] = x + y
+    return made(many, ties)
+
+
+def right_joining(web, rows):
+    return joined_by(len(web), rows) == web
+
+
+def right_line_of_four(web, some):
+    return len(some) == 4 and right_line(web, some)
+
+
+def right_forced(web, one, two):
+    (a, b), (c, d) = one, two
+    return a == c and d != b and not is_tied(web, d, b) or b == d and c != a and not is_tied(web, c, a)
+
+
+def right_arrow(web, told):
+    return len(told) == 2 and are_unlike_points(web, told) and is_tied(web, told[0], told[1])
+
+
+def right_arrows(web, rows):
+    if not all(right_arrow(web, told) for told in rows):
+        return False
+    for a, b in combinations(range(len(web)), 2):
+        if rows.count([a, b]) + rows.count([b, a]) != (1 if is_tied(web, a, b) else 0):
+            return False
+    return all([one[0], two[1]] in rows for one in rows for two in rows if one[1] == two[0])
+
+
+def right_chain(web, rows):
+    if len(rows) < 2 or not all(right_arrow(web, told) for told in rows) or rows[-1] != rows[0][::-1]:
+        return False
+    return all(right_forced(web, one, two) for one, two in zip(rows, rows[1:]))
+
+
+def arrows_in(web):
+    return [[a, b] for a in range(len(web)) for b in members(web[a])]
+
+
 def spoil(value):
     """Every list within is made another one."""
     if isinstance(value, tuple):
