@@ -347,6 +347,46 @@ def arrows_in(web):
     return [[a, b] for a in range(len(web)) for b in members(web[a])]
 
 
+def right_turning(web, one, two):
+    if not each_once(web, one) or not each_once(web, two):
+        return False
+    return all(is_tied(web, a, b) == ((one.index(a) < one.index(b)) != (two.index(a) < two.index(b)))
+               for a, b in combinations(range(len(web)), 2))
+
+
+def right_no_turning(web, mark, rows):
+    return mark == 0 and right_chain(web, rows) or mark == 1 and right_chain(other(web), rows)
+
+
+def right_spans(web, rows):
+    if len(rows) != len(web) or not all(len(told) == 2 and told[0] <= told[1] for told in rows):
+        return False
+    return all(is_tied(web, a, b) == (not rows[a][1] < rows[b][0] and not rows[b][1] < rows[a][0])
+               for a, b in combinations(range(len(web)), 2))
+
+
+def right_no_spans(web, mark, rows):
+    if mark == 0:
+        return len(rows) == 1 and len(rows[0]) == 4 and right_ring(web, rows[0])
+    return mark == 1 and right_chain(other(web), rows)
+
+
+def is_way_past(web, a, b, third):
+    """Whether one comes from a to b by points that are neither the third one nor mates of it."""
+    free = [p for p in range(len(web)) if p != third and not is_tied(web, p, third)]
+    seen = [a] if a in free else []
+    for p in seen:
+        seen += [q for q in free if is_tied(web, p, q) and q not in seen]
+    return b in seen
+
+
+def right_triple(web, some):
+    if len(some) != 3 or not are_unlike_points(web, some):
+        return False
+    a, b, c = some
+    return is_way_past(web, a, b, c) and is_way_past(web, a, c, b) and is_way_past(web, b, c, a)
+
+
 def spoil(value):
     """Every list within is made another one."""
     if isinstance(value, tuple):
