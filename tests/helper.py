@@ -343,6 +343,16 @@ def right_chain(web, rows):
     return all(right_forced(web, one, two) for one, two in zip(rows, rows[1:]))
 
 
+def some_order(web, chance):
+    """An order of taking in which each point is any one of those that may be taken."""
+    order, left = [], list(range(len(web)))
+    while left:
+        free = [p for p in left if are_all_tied(web, [q for q in left if is_tied(web, p, q)])]
+        order.append(chance.choice(free))
+        left.remove(order[-1])
+    return order
+
+
 def arrows_in(web):
     return [[a, b] for a in range(len(web)) for b in members(web[a])]
 
@@ -385,6 +395,57 @@ def right_triple(web, some):
         return False
     a, b, c = some
     return is_way_past(web, a, b, c) and is_way_past(web, a, c, b) and is_way_past(web, b, c, a)
+
+
+def part_all(web, rows):
+    return len(rows) == 2 and each_once(web, rows[0] + rows[1])
+
+
+RIGHT_MAKES = {
+    "sided": lambda web, rows: part_all(web, rows) and are_none_tied(web, rows[0]) and are_none_tied(web, rows[1]),
+    "rounds": lambda web, rows: len(rows) == 1 and right_taking(web, rows[0]),
+    "split": lambda web, rows: part_all(web, rows) and are_all_tied(web, rows[0]) and are_none_tied(web, rows[1]),
+    "steps": right_steps,
+    "joins": right_joining,
+    "ranked": right_arrows,
+    "turned": lambda web, rows: len(rows) == 2 and right_turning(web, rows[0], rows[1]),
+    "spans": right_spans,
+}
+
+RIGHT_BARS = {
+    "sided": lambda web, rows: len(rows) == 1 and right_odd_ring(web, rows[0]),
+    "rounds": lambda web, rows: len(rows) == 1 and right_chordless(web, rows[0]),
+    "split": lambda web, rows: len(rows) == 1 and right_no_halves(web, rows[0]),
+    "steps": lambda web, rows: len(rows) == 1 and right_no_steps(web, rows[0]),
+    "joins": lambda web, rows: len(rows) == 1 and right_line_of_four(web, rows[0]),
+    "ranked": right_chain,
+    "turned": lambda web, rows: has_mark(rows) and right_no_turning(web, rows[0][0], rows[1:]),
+    "spans": lambda web, rows: has_mark(rows) and right_no_spans(web, rows[0][0], rows[1:]),
+}
+
+
+def has_mark(rows):
+    return len(rows) > 0 and len(rows[0]) == 1
+
+
+def right_paper(word, web, paper):
+    return RIGHT_MAKES[word](web, paper[1]) if paper[0] else RIGHT_BARS[word](web, paper[1])
+
+
+def check_best(test, web, best):
+    """The best is told as the document says."""
+    test.assertIs(type(best), tuple)
+    clique, colours, loose, covers = best
+    check_numbers(test, [clique, loose])
+    test.assertTrue(0 <= clique < 2 ** len(web) and 0 <= loose < 2 ** len(web))
+    test.assertTrue(are_all_tied(web, members(clique)), (web, best))
+    test.assertTrue(are_none_tied(web, members(loose)), (web, best))
+    for several, asked, size in [(colours, are_none_tied, clique), (covers, are_all_tied, loose)]:
+        check_numbers(test, several)
+        test.assertTrue(all(some > 0 for some in several), (web, best))
+        test.assertTrue(each_once(web, [p for some in several for p in members(some)]), (web, best))
+        test.assertTrue(all(asked(web, members(some)) for some in several), (web, best))
+        test.assertEqual(len(several), len(members(size)), (web, best))
 
 
 def spoil(value):

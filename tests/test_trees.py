@@ -6,7 +6,7 @@ from cotreehall.rounds import taking
 from cotreehall.trees import stretches
 from helper import (
     apart, are_all_tied, bare, check_free, full, great_webs, is_tied, is_whole_number, members, right_taking, row,
-    small_webs, some_rounds, some_spans)
+    small_webs, some_order, some_rounds, some_spans)
 
 
 def right_knots(web):
@@ -39,16 +39,6 @@ def hang_together(numbers, links):
 
 def all_orders(web):
     return [list(order) for order in permutations(range(len(web))) if right_taking(web, list(order))]
-
-
-def some_order(web, chance):
-    """An order of taking in which each point is one of those that may be taken."""
-    order, left = [], list(range(len(web)))
-    while left:
-        free = [p for p in left if are_all_tied(web, [q for q in left if is_tied(web, p, q)])]
-        order.append(chance.choice(free))
-        left.remove(order[-1])
-    return order
 
 
 class StretchesTest(unittest.TestCase):
