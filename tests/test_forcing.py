@@ -4,7 +4,8 @@ from itertools import product
 from cotreehall.forcing import arrows, chain, forced, is_arrows, is_chain
 from helper import (
     HUGE, WIDE, apart, arrows_in, bare, check_agrees, check_free, check_kept, check_one_is_none, check_rows, full,
-    great_webs, made, mixed, near_rows, no_points, other, right_arrows, right_chain, right_forced, ring, row, small_webs)
+    great_webs, made, mixed, near_rows, no_points, other, right_arrows, right_chain, right_forced, ring, row,
+    small_webs)
 
 FIVE = [[0, 1], [2, 1], [2, 3], [4, 3], [4, 0], [1, 0]]
 

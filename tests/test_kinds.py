@@ -1,12 +1,13 @@
 import random
 import unittest
-from itertools import product
+from itertools import combinations, product
 
+from cotreehall.best import best_by_arrows, best_by_joining, best_by_order, best_by_sides
 from cotreehall.errors import NoKind
 from cotreehall.kinds import Joins, Kind, Ranked, Rounds, Sided, Spans, Split, Steps, Turned, kind_of, kinds
 from helper import (
     HUGE, RIGHT_BARS, RIGHT_MAKES, WIDE, apart, arrows_in, bare, check_best, check_free, check_rows, full, great_webs,
-    is_tied, members, near_rows, other, ring, right_chain, row, small_webs, some_joins, some_order, some_ranked,
+    is_tied, made, members, near_rows, other, ring, right_chain, row, small_webs, some_joins, some_order, some_ranked,
     some_rounds, some_sided, some_spans, some_split, some_steps, some_turned)
 
 CLASSES = [Sided, Rounds, Split, Steps, Joins, Ranked, Turned, Spans]
@@ -17,6 +18,11 @@ OF_NO_POINTS = {"sided": [[], []], "rounds": [[]], "split": [[], []], "steps": [
 AGAINST = {"sided": [[0, 1, 2]], "rounds": [[0, 1, 2, 3]], "split": [[0, 1, 2, 3]], "steps": [[0, 1, 2, 3]],
            "joins": [[0, 1, 2, 3]], "ranked": [[0, 1], [1, 0]], "turned": [[0], [0, 1], [1, 0]],
            "spans": [[0], [0, 1, 2, 3]]}
+
+
+def by_steps(rows):
+    ties = [(rows[j][0], rows[k][0]) for j, k in combinations(range(len(rows)), 2) if rows[k][1] == 1]
+    return made(len(rows), ties)
 
 
 def guessed_rows(word, web):
@@ -51,13 +57,13 @@ class ListTest(unittest.TestCase):
             self.assertEqual(issubclass(one, two), right)
 
     def test_all_are_made_without_arguments_and_have_the_methods(self):
-        for made in [Kind] + CLASSES:
+        for kind in [Kind] + CLASSES:
             for method in ["word", "made", "barred", "makes", "bars", "best", "paper", "holds"]:
-                self.assertTrue(callable(getattr(made(), method)))
+                self.assertTrue(callable(getattr(kind(), method)))
 
     def test_kind_of(self):
-        for word, made in zip(WORDS, CLASSES):
-            self.assertIs(type(kind_of(word)), made)
+        for word, kind in zip(WORDS, CLASSES):
+            self.assertIs(type(kind_of(word)), kind)
             self.assertEqual(kind_of(word).word(), word)
         for word in ["", "side", "sideds", "Sided", "SIDED", " sided", "sided ", "kind", "rings", "sided rounds", "7"]:
             with self.assertRaises(NoKind):
@@ -269,6 +275,20 @@ class BestTest(unittest.TestCase):
             self.check_told("spans", web, [[l * HUGE - 7, r * HUGE] for l, r in rows])
             self.check_told("spans", web, [[2 * l - p % 2, 2 * r] for p, (l, r) in enumerate(rows)])
         self.check_told("spans", row(3), [[-WIDE, 0], [0, 5], [5, WIDE]])
+
+    def test_of_what_the_best_is_told(self):
+        rows = [[2, 0], [0, 1], [3, 0], [1, 1]]
+        web = by_steps(rows)
+        self.assertEqual(kind_of("steps").best(web, rows), best_by_order(web, [2, 3, 0, 1]))
+        self.assertEqual(kind_of("split").best(web, [[1, 0], [3, 2]]), best_by_order(web, [3, 2, 1, 0]))
+        self.assertEqual(kind_of("rounds").best(web, [[2, 3, 1, 0]]), best_by_order(web, [2, 3, 1, 0]))
+        self.assertEqual(kind_of("spans").best(row(3), [[5, 9], [3, 5], [0, 3]]), best_by_order(row(3), [2, 1, 0]))
+        self.assertEqual(kind_of("sided").best(row(3), [[1], [2, 0]]), best_by_sides(row(3), 0b010))
+        joins = [[0, 2, 0], [1, 1, 3]]
+        self.assertEqual(kind_of("joins").best(row(3), joins), best_by_joining(row(3), joins))
+        told = [[1, 0], [1, 2]]
+        self.assertEqual(kind_of("ranked").best(row(3), told), best_by_arrows(row(3), told))
+        self.assertEqual(kind_of("turned").best(row(3), [[1, 0, 2], [0, 2, 1]]), best_by_arrows(row(3), told))
 
     def test_the_points_by_rising_r_and_not_by_l(self):
         web = [0b1110, 0b0001, 0b0001, 0b0001]

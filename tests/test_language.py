@@ -86,7 +86,8 @@ def is_plain(node):
 def bound_within(node):
     """The parameters and locals of a def."""
     names = [arg.arg for arg in ast.walk(node) if isinstance(arg, ast.arg)]
-    return names + [name.id for name in ast.walk(node) if isinstance(name, ast.Name) and isinstance(name.ctx, ast.Store)]
+    stored = [name for name in ast.walk(node) if isinstance(name, ast.Name) and isinstance(name.ctx, ast.Store)]
+    return names + [name.id for name in stored]
 
 
 class LanguageTest(unittest.TestCase):
@@ -161,7 +162,8 @@ class LanguageTest(unittest.TestCase):
             self.assertTrue(all(node in tree.body for node in within), name)
 
     def test_classes(self):
-        methods = [part.name for name, node in nodes(ast.ClassDef) for part in node.body if not isinstance(part, ast.Pass)]
+        parts = [part for name, node in nodes(ast.ClassDef) for part in node.body]
+        methods = [part.name for part in parts if isinstance(part, ast.FunctionDef)]
         values = [node.attr for name, node in nodes(ast.Attribute) if isinstance(node.ctx, ast.Store)]
         for name, node in nodes(ast.ClassDef):
             self.assertLessEqual(len(node.bases), 1, node.name)
